@@ -1,0 +1,1 @@
+"""Likelights: what webs of mirrors do with grains that nobody can tell apart."""
