@@ -1,4 +1,6 @@
-"""What integers are, and tuples of them: the tests that all modules share."""
+"""What integers are, tuples of them, and words for them: the tests that all modules share."""
+
+MOST_FIGURES = 4000
 
 
 def is_integer(value):
@@ -14,3 +16,15 @@ def is_between(value, low, high):
 def are_integers(value):
     """Tell whether value is a tuple, perhaps an empty one, of integers alone."""
     return isinstance(value, tuple) and all([is_integer(part) for part in value])
+
+
+def read_integer(word):
+    """Return the integer that a word is, as Python writes it, or None if it is none."""
+    figures = word.removeprefix("-")
+    if not figures.isascii() or not figures.isdigit():
+        return None
+    # Python refuses to read integers that are a little longer than this; no text needs them.
+    if len(figures) > MOST_FIGURES:
+        return None
+    number = int(word)
+    return number if str(number) == word else None

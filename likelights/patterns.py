@@ -4,7 +4,7 @@ from itertools import combinations
 from math import factorial
 
 from likelights.checks import are_integers, is_between
-from likelights.errors import BadGrains, BadLines, BadLot, BadPattern, BadPlace, BadSize, TooMany
+from likelights.errors import BadGrains, BadLines, BadLot, BadPattern, BadPlace, BadSize, OtherCount, TooMany
 
 MOST_LINES = 4
 MOST_GRAINS = 6
@@ -68,6 +68,21 @@ def all_patterns(lines, grains):
     return found
 
 
+def lots_of(lines, size):
+    """Return the tuple of all lots of one size, of so many lines, ascending."""
+    return tuple(combinations(range(lines), size))
+
+
+def lone_pattern(lot, lines):
+    """Return the pattern with one grain at each line of a lot."""
+    return tuple([1 if line in lot else 0 for line in range(lines)])
+
+
+def is_lone(pattern):
+    """Tell whether no line of a pattern has more than one grain."""
+    return all([grains <= 1 for grains in pattern])
+
+
 def is_pattern(value):
     """Tell whether value is a pattern of 1 to 4 lines, of any number of grains."""
     if not are_integers(value) or not 1 <= len(value) <= MOST_LINES:
@@ -101,3 +116,16 @@ def check_pattern(value):
     grains = sum(value)
     if grains > MOST_GRAINS:
         raise TooMany(grains)
+
+
+def check_pattern_of(value, lines):
+    """Raise BadPattern, then TooMany, unless value is a pattern of just so many lines."""
+    if not is_pattern(value) or len(value) != lines:
+        raise BadPattern(value)
+    check_pattern(value)
+
+
+def check_same_count(start, end):
+    """Raise OtherCount unless both patterns have as many grains."""
+    if sum(start) != sum(end):
+        raise OtherCount((sum(start), sum(end)))

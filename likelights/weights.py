@@ -4,28 +4,24 @@ from math import gcd
 
 from likelights.checks import are_integers
 from likelights.errors import BadWeight
+from likelights.ratios import least_fraction
+
+NOUGHT = (0, 0, 1)
+ONE = (1, 0, 1)
 
 
 def plus(one, other):
     """Return the sum of two weights."""
     check_weight(one)
     check_weight(other)
-    one_re, one_im, one_bottom = one
-    other_re, other_im, other_bottom = other
-    re = one_re * other_bottom + other_re * one_bottom
-    im = one_im * other_bottom + other_im * one_bottom
-    return least_weight(re, im, one_bottom * other_bottom)
+    return add_weights(one, other)
 
 
 def times(one, other):
     """Return the product of two weights."""
     check_weight(one)
     check_weight(other)
-    one_re, one_im, one_bottom = one
-    other_re, other_im, other_bottom = other
-    re = one_re * other_re - one_im * other_im
-    im = one_re * other_im + one_im * other_re
-    return least_weight(re, im, one_bottom * other_bottom)
+    return multiply_weights(one, other)
 
 
 def turned(one):
@@ -40,6 +36,24 @@ def size(one):
     check_weight(one)
     re, im, bottom = one
     return least_fraction(re * re + im * im, bottom * bottom)
+
+
+def add_weights(one, other):
+    """Return the sum of what surely are weights."""
+    one_re, one_im, one_bottom = one
+    other_re, other_im, other_bottom = other
+    re = one_re * other_bottom + other_re * one_bottom
+    im = one_im * other_bottom + other_im * one_bottom
+    return least_weight(re, im, one_bottom * other_bottom)
+
+
+def multiply_weights(one, other):
+    """Return the product of what surely are weights."""
+    one_re, one_im, one_bottom = one
+    other_re, other_im, other_bottom = other
+    re = one_re * other_re - one_im * other_im
+    im = one_re * other_im + one_im * other_re
+    return least_weight(re, im, one_bottom * other_bottom)
 
 
 def check_weight(value):
@@ -60,9 +74,3 @@ def least_weight(re, im, bottom):
     """Return (re + i im) / bottom, bottom from 1 on, in least terms."""
     shared = gcd(gcd(re, im), bottom)
     return (re // shared, im // shared, bottom // shared)
-
-
-def least_fraction(top, bottom):
-    """Return top / bottom, bottom from 1 on, in least terms."""
-    shared = gcd(top, bottom)
-    return (top // shared, bottom // shared)
