@@ -7,14 +7,11 @@ from likelights.patterns import (
     check_same_count,
     is_lone,
     is_pattern,
-    lone_pattern,
-    lots_in,
-    lots_of,
     patterns,
     repeats,
 )
 from likelights.ratios import NO_SHARE, WHOLE, add_fractions, least_fraction, multiply_fractions
-from likelights.sums import multiplied_out, signed_sum
+from likelights.sums import multiplied_out, signed_out
 from likelights.weights import size
 
 SORTS = ("strangers", "flockers", "shunners")
@@ -83,12 +80,7 @@ def flockers(web, start):
 
 def shunners(web, start):
     """Return a dict with the chance of each lone pattern for grains of which one is at a line at most."""
-    many = sum(start)
-    lot = lots_in(start, many)[0]
-    return {
-        lone_pattern(end, web.lines): size(signed_sum(web.table, lot, end))
-        for end in lots_of(web.lines, many)
-    }
+    return {pattern: size(weight) for pattern, weight in signed_out(web.table, start).items()}
 
 
 def as_weight(fraction):

@@ -1,4 +1,4 @@
-"""What integers are, tuples of them, and words for them: the tests that all modules share."""
+"""What integers, tuples and words are: the tests that all modules share."""
 
 MOST_FIGURES = 4000
 
@@ -16,6 +16,16 @@ def is_between(value, low, high):
 def are_integers(value):
     """Tell whether value is a tuple, perhaps an empty one, of integers alone."""
     return isinstance(value, tuple) and all([is_integer(part) for part in value])
+
+
+def is_tuple(value, many):
+    """Tell whether value is a tuple of just so many values."""
+    return isinstance(value, tuple) and len(value) == many
+
+
+def is_word(value, word):
+    """Tell whether value is this very string."""
+    return isinstance(value, str) and value == word
 
 
 def read_integer(word):

@@ -41,6 +41,12 @@ def multiply_fractions(one, other):
     return least_fraction(one_top * other_top, one_bottom * other_bottom)
 
 
+def divide_fractions(one, other):
+    """Return the fraction that, times other, which is above 0, is one."""
+    other_top, other_bottom = other
+    return multiply_fractions(one, (other_bottom, other_top))
+
+
 def contrary(fraction):
     """Return the fraction with the other sign."""
     top, bottom = fraction

@@ -1,7 +1,16 @@
 """Sums over all pairings of grains: what a web does with several of them at once."""
 
 from likelights.errors import BadLot, OtherSize
-from likelights.patterns import check_pattern_of, check_same_count, is_lot, patterns, repeats
+from likelights.patterns import (
+    check_pattern_of,
+    check_same_count,
+    is_lot,
+    lone_pattern,
+    lots_in,
+    lots_of,
+    patterns,
+    repeats,
+)
 from likelights.weights import NOUGHT, ONE, add_weights, multiply_weights
 
 
@@ -63,6 +72,14 @@ def signed_sum(table, start, end):
         total = add_weights(total, multiply_weights(weight, (sign, 0, 1)))
         sign = -sign
     return total
+
+
+def signed_out(table, start):
+    """Return a dict with the signed sum of each lone pattern to which the grains of a lone one may come."""
+    lines = len(start)
+    many = sum(start)
+    lot = lots_in(start, many)[0]
+    return {lone_pattern(end, lines): signed_sum(table, lot, end) for end in lots_of(lines, many)}
 
 
 def check_lot(value, lines):

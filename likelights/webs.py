@@ -1,7 +1,7 @@
 """Webs: up to four lines and the pieces on them, read from texts and put together."""
 
 from likelights.checks import are_integers, is_between
-from likelights.errors import BadLine, BadMove, BadWeb, OtherLines, Wide
+from likelights.errors import BadLine, BadMove, BadWeb, BadWebs, OtherLines, Wide
 from likelights.patterns import MOST_LINES
 from likelights.pieces import lines_of, mirrored_piece, moved_piece, piece_text, read_piece, table_through
 
@@ -33,8 +33,7 @@ class Web:
     def __mul__(self, other):
         if not isinstance(other, Web):
             return NotImplemented
-        if self.lines != other.lines:
-            raise OtherLines(other)
+        check_same_lines(self, other)
         return web_of(self.lines, self.pieces + other.pieces)
 
 
@@ -124,3 +123,19 @@ def check_line(value, lines):
     """Raise BadLine unless value is a line of so many."""
     if not is_between(value, 0, lines - 1):
         raise BadLine(value)
+
+
+def check_same_lines(one, other):
+    """Raise OtherLines unless both, two Webs or two Programs, have as many lines."""
+    if one.lines != other.lines:
+        raise OtherLines(other)
+
+
+def check_webs(value, least, most):
+    """Raise BadWebs unless value is a tuple of least to most Webs of the same number of lines."""
+    if not isinstance(value, tuple) or not least <= len(value) <= most:
+        raise BadWebs(value)
+    if not all([isinstance(web, Web) for web in value]):
+        raise BadWebs(value)
+    if not all([web.lines == value[0].lines for web in value]):
+        raise BadWebs(value)

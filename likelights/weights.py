@@ -56,6 +56,24 @@ def multiply_weights(one, other):
     return least_weight(re, im, one_bottom * other_bottom)
 
 
+def divide_weights(one, other):
+    """Return the weight that, times other, which is not 0, is one."""
+    one_re, one_im, one_bottom = one
+    other_re, other_im, other_bottom = other
+    re = one_re * other_re + one_im * other_im
+    im = one_im * other_re - one_re * other_im
+    return least_weight(re * other_bottom, im * other_bottom, one_bottom * (other_re * other_re + other_im * other_im))
+
+
+def ratio_of(weights, others):
+    """Return the weight that, times each of the weights, which are not all 0, is the other one, or None."""
+    ratios = [divide_weights(other, weight) for weight, other in zip(weights, others) if weight != NOUGHT]
+    ratio = ratios[0]
+    if [multiply_weights(weight, ratio) for weight in weights] != others:
+        return None
+    return ratio
+
+
 def check_weight(value):
     """Raise BadWeight unless value is a weight."""
     if not is_weight(value):

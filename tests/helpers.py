@@ -3,7 +3,7 @@
 import copy
 
 from likelights.webs import Web
-from tests.reference import random_text
+from tests.reference import lively_text, random_text
 
 
 def nested(depth):
@@ -63,6 +63,22 @@ def web_at(name, lines, many=9):
     return Web(random_text(name, lines, many))
 
 
+def lively_web(name, lines, many=6):
+    return Web(lively_text(name, lines, many))
+
+
+def no_counters(lines):
+    """Values that are no counter of so many lines."""
+    each = tuple((line,) for line in range(lines))
+    wrong = (
+        0, "0", ((),), each + ((),), ((),) + each, each + ((0,),), each + each, [(0,)], list(each), ([0],), (0,), (0, 1),
+        ((0, 0),), ((lines,),), ((-1,),), ((0,), (-lines,)), ((0, lines),), ((True,),), ((False,),), (("0",),),
+        ((None,),), (((0,),),), ((0,), None), (None, (0,)), ((0,), [1]), {(0,): 1}, each + (lines,), ((0.0,),),
+        ((0,), True), ((lines - 1, 0),), ((0,), (0,)), tuple(each[::-1]) + ((0,),), (tuple(range(lines)), (0,)),
+    )
+    return NO_KIND_OF_IT + wrong
+
+
 def moved_pattern(pattern, lines):
     found = [0] * len(pattern)
     for line, grains in enumerate(pattern):
@@ -94,7 +110,7 @@ class Checks:
     def same(self, got, wanted):
         self.assertEqual(repr(got), repr(wanted))
 
-    def refused(self, error, value, call, *args, **named):
+    def refused(self, error, value, call, /, *args, **named):
         """call raises just this error, with this very value, and leaves its arguments alone."""
         before = copy.deepcopy((args, named))
         with self.assertRaises(error) as caught:
@@ -106,7 +122,7 @@ class Checks:
             self.assertIs(caught.exception.value, value)
         self.assertEqual((args, named), before)
 
-    def refused_with(self, error, value, call, *args, **named):
+    def refused_with(self, error, value, call, /, *args, **named):
         """The same for a value that the program itself makes, such as two numbers."""
         before = copy.deepcopy((args, named))
         with self.assertRaises(error) as caught:

@@ -43,6 +43,19 @@ def random_text(seed, lines, many):
     return text_of(lines, random_pieces(seed, lines, many))
 
 
+def lively_text(seed, lines, many):
+    """A text whose pieces, if there are two lines or more, mostly lead grains over from line to line."""
+    chosen = random.Random(f"lively {seed} {lines} {many}")
+    rows = [f"web {lines}"]
+    for _ in range(many):
+        a, b = chosen.sample(range(lines), 2) if lines > 1 else (0, 0)
+        turn = "turn {} {} {} {}".format(a, *chosen.choice(((3, 4, 5), (0, 1, 1), (-5, 12, 13), (0, -1, 1))))
+        rows.append(turn if lines == 1 else chosen.choice((
+            f"even {a} {b} {chosen.choice((1, -1))}", f"mirror {a} {b} 3 4 5", f"mirror {a} {b} -12 5 13", turn,
+        )))
+    return "\n".join(rows)
+
+
 # Weights as pairs of Fractions.
 
 def parts(weight):
@@ -208,3 +221,153 @@ def slow_chances(table, sort, start):
 
 def is_least(weight):
     return weight[2] >= 1 and gcd(*weight) == 1
+
+
+# Counters.
+
+def all_counters(lines):
+    """All counters of so many lines, lots in any sequence, () too."""
+    found = set()
+    for marks in product(range(lines + 1), repeat=lines):
+        lots = [tuple(line for line in range(lines) if marks[line] == mark) for mark in range(1, lines + 1)]
+        found.update(permutations([lot for lot in lots if lot]))
+    return sorted(found)
+
+
+def some_counters(seed, lines, many):
+    """() and each line by itself, and some others."""
+    chosen = random.Random(f"counters {seed} {lines}")
+    each = tuple((line,) for line in range(lines))
+    others = all_counters(lines)
+    return [(), each] + chosen.sample(others, min(many, len(others)))
+
+
+def counts_of(pattern, counter):
+    return tuple(sum(pattern[line] for line in lot) for lot in counter)
+
+
+def slow_counts(lots, most):
+    return sorted([row for row in product(range(most + 1), repeat=lots) if sum(row) <= most], reverse=True)
+
+
+def slow_counted(table, sort, start, counter):
+    every = slow_chances(table, sort, start)
+    return tuple(
+        (counts, as_fraction(sum(Fraction(*share) for end, share in every if counts_of(end, counter) == counts)))
+        for counts in slow_counts(len(counter), sum(start))
+    )
+
+
+def slow_whether(table, sort, start, counter):
+    every = slow_chances(table, sort, start)
+    return tuple(
+        (marks, as_fraction(sum(
+            Fraction(*share) for end, share in every
+            if tuple(int(grains > 0) for grains in counts_of(end, counter)) == marks
+        )))
+        for marks in sorted(product((0, 1), repeat=len(counter)), reverse=True)
+    )
+
+
+# Programs, as lists of blocks (name, pieces, step), a step being ("end", word) or ("look", line, leads, otherwise).
+
+def program_text(lines, blocks):
+    rows = [f"program {lines}"]
+    for name, pieces, step in blocks:
+        rows.append(f"block {name}")
+        rows += [" ".join(map(str, piece)) for piece in pieces]
+        if step[0] == "end":
+            rows.append(f"end {step[1]}")
+        else:
+            rows.append(f"look {step[1]}")
+            rows += [f"on {grains} {lead}" for grains, lead in step[2]]
+            rows.append(f"else {step[3]}")
+    return "\n".join(rows)
+
+
+def random_blocks(seed, lines, many, most=3):
+    """Blocks that lead on to any later ones; the last one ends."""
+    chosen = random.Random(f"blocks {seed} {lines} {many}")
+    names = chosen.sample(("a", "b", "c", "zz", "look", "block", "on", "end", "else", "mirror", "abcdefgh", "z"), many)
+    blocks = []
+    for at, name in enumerate(names):
+        pieces = tuple(lively_piece(chosen, lines) for _ in range(chosen.randrange(most + 1)))
+        later = names[at + 1:]
+        if not later or at > 0 and chosen.random() < 0.2:
+            step = ("end", chosen.choice(("done", "some", "a", "none")))
+        else:
+            numbers = sorted(chosen.sample(range(7), chosen.randrange(4)))
+            leads = [(grains, chosen.choice(later)) for grains in numbers]
+            step = ("look", chosen.randrange(lines), leads, chosen.choice(later))
+        blocks.append((name, pieces, step))
+    return blocks
+
+
+def lively_piece(chosen, lines):
+    row = lively_text(chosen.random(), lines, 1).split("\n")[1]
+    kind, *numbers = row.split(" ")
+    return (kind, *map(int, numbers))
+
+
+def brought_in_line(letters, sort):
+    """Letters in the sequence of their lines, and the sign that this brings; 0 if the product is 0."""
+    if sort == "flockers":
+        return tuple(sorted(letters)), 1
+    if len(set(letters)) < len(letters):
+        return (), 0
+    return tuple(sorted(letters)), -1 if is_odd(letters) else 1
+
+
+def through_piece(products, piece, sort):
+    """Put in the place of each letter the sum of the letters to which the piece leads, one by one."""
+    found = {}
+    for letters, weight in products.items():
+        grown = [((), weight)]
+        for letter in letters:
+            grown = [
+                (row + (end,), multiplied(part, way)) for row, part in grown for end, way in steps(piece, letter)
+            ]
+        for row, part in grown:
+            row, sign = brought_in_line(row, sort)
+            if sign:
+                old = found.get(row, NOUGHT)
+                found[row] = added(old, (sign * part[0], sign * part[1]))
+    return found
+
+
+def counted_at(products, line, grains, sort):
+    found = {}
+    for letters, weight in products.items():
+        if letters.count(line) == grains:
+            sign = -1 if sort == "shunners" and grains and letters.index(line) % 2 else 1
+            rest = tuple(letter for letter in letters if letter != line)
+            found[rest] = (sign * weight[0], sign * weight[1])
+    return found
+
+
+def slow_ways(lines, blocks, sort, start):
+    """All ways that come: (counts, word, {pattern left: chance})."""
+    tree = {name: (pieces, step) for name, pieces, step in blocks}
+    found = []
+
+    def go_on(name, counts, products):
+        pieces, step = tree[name]
+        for piece in pieces:
+            products = through_piece(products, piece, sort)
+        if step[0] == "end":
+            shares = {}
+            for letters, weight in products.items():
+                pattern = tuple(letters.count(line) for line in range(lines))
+                share = sized(weight) * repeats_of(pattern) * repeats_of(counts) / repeats_of(start)
+                if share:
+                    shares[pattern] = share
+            if shares:
+                found.append((counts, step[1], shares))
+            return
+        for grains in range(sum(start) + 1):
+            behind = counted_at(products, step[1], grains, sort)
+            if any(sized(weight) for weight in behind.values()):
+                go_on(dict(step[2]).get(grains, step[3]), counts + (grains,), behind)
+
+    go_on(blocks[0][0], (), {tuple(grains_of(start)): ONE})
+    return sorted(found, key=lambda row: row[0])

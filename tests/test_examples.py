@@ -84,6 +84,122 @@ SECTION_8 = r"""
 [('column', (0,)), None]
 """
 
+SECTION_9 = r"""
+>>> from likelights.counters import by_seen, counted, missed, seen_table, whether
+>>> from likelights.webs import Web
+>>> half = Web('web 2\neven 0 1 1')
+>>> first = ((0,),)
+>>> [counted(half, sort, (1, 1), first) for sort in ('strangers', 'flockers', 'shunners')]
+[(((2,), (1, 4)), ((1,), (1, 2)), ((0,), (1, 4))), (((2,), (1, 2)), ((1,), (0, 1)), ((0,), (1, 2))), (((2,), (0, 1)), ((1,), (1, 1)), ((0,), (0, 1)))]
+>>> [whether(half, 'flockers', (1, 1), first), counted(half, 'flockers', (2, 0), ((0, 1),))[0]]
+[(((1,), (1, 2)), ((0,), (1, 2))), ((2,), (1, 1))]
+>>> seen = seen_table(half, first)
+>>> [row for row in seen if row[0] in ((1,), (0, 1))]
+[((1,), (1,), (1, 2)), ((1,), (0,), (1, 2)), ((0, 1), (2,), (0, 1)), ((0, 1), (1,), (1, 1)), ((0, 1), (0,), (0, 1))]
+>>> [by_seen(2, first, seen, (1, 1), counts) for counts in ((2,), (1,), (0,))]
+[(1, 2), (0, 1), (1, 2)]
+>>> missed((((2,), (1, 2)), ((0,), (1, 2))), ((1, 2),))
+(((2,), (1, 8)), ((1,), (1, 4)), ((0,), (5, 8)))
+"""
+
+SECTION_10 = r"""
+>>> from likelights.alike import alike, anywhere, between, kinds_of, shows_alike, shows_between
+>>> from likelights.webs import Web
+>>> plain = Web('web 2')
+>>> even = Web('web 2\neven 0 1 1')
+>>> tilted = Web('web 2\nmirror 0 1 3 4 5')
+>>> turned = Web('web 2\nturn 0 0 1 1\nturn 1 0 1 1')
+>>> each = ((0,), (1,))
+>>> [alike(plain, turned, each), between(plain, turned), anywhere(plain, turned)[0]]
+[('alike',), ('turn', (0, 1, 1)), 'anywhere']
+>>> [alike(even, tilted, ((0,),))[0], alike(even, tilted, ((0, 1),)), shows_alike(even, tilted, each, ('unlike', (0,), (1, 0), (1, 2), (9, 25)))]
+['unlike', ('alike',), True]
+>>> back = Web('web 2\neven 0 1 -1')
+>>> [alike(even, back, each), between(even, back)[0], shows_between(even, back, ('between', 'web 2\neven 0 1 1', 'web 2', 0, 0))]
+[('alike',), 'between', True]
+>>> kinds_of((plain, turned, even, back, tilted), 'between', each)
+((0, 1), (2,), (3,), (4,))
+"""
+
+SECTION_11 = r"""
+>>> from likelights.programs import ends, left, Program, programs_alike, ways
+>>> look = Program('program 2\nblock a\neven 0 1 1\nlook 0\non 0 b\nelse c\nblock b\nend none\nblock c\nend some')
+>>> [look.lines, look.blocks, look.words, ways(look, 'flockers', (1, 1))]
+[2, ('a', 'b', 'c'), ('none', 'some'), (((0,), 'none', (1, 2)), ((2,), 'some', (1, 2)))]
+>>> [left(look, 'flockers', (1, 1), 'none'), left(look, 'flockers', (1, 1), 'some'), ends(look, 'shunners', (1, 1))]
+[(((0, 2), (1, 1)),), (((0, 0), (1, 1)),), (('none', (0, 1)), ('some', (1, 1)))]
+>>> again = Program('program 2\nblock a\neven 0 1 1\nlook 0\non 1 b\nelse c\nblock b\neven 0 1 -1\nlook 1\non 1 c\nelse d\nblock c\nend none\nblock d\nend some')
+>>> [ways(again, 'flockers', (1, 0)), programs_alike(look, again, 'flockers', (1, 0)), programs_alike(look, again, 'flockers', (1, 1))]
+[(((0,), 'none', (1, 2)), ((1, 0), 'some', (1, 2))), ('alike',), ('unlike', 'none', (1, 2), (1, 1))]
+"""
+
+SECTION_12 = r"""
+>>> from likelights.never import barred, changes, never, shows_never, surely
+>>> from likelights.webs import Web
+>>> plus = Web('web 2\nturn 1 0 1 1\neven 0 1 1\nturn 1 0 1 1')
+>>> plus.table
+(((1, 1, 2), (1, 1, 2)), ((1, 1, 2), (-1, -1, 2)))
+>>> changes(plus)
+(((0, 1), ((1, 0, 1), (1, 0, 1))), ((1, 0), ((1, 0, 1), (-1, 0, 1))))
+>>> [barred(plus, changes(plus)[1], (1, 1)), never(plus, (1, 1), (1, 1)), never(plus, (1, 1), (2, 0))]
+[((1, 1),), ('changed', (1, 0)), ('comes', (1, 2))]
+>>> [never(plus, (3, 1), (2, 2)), shows_never(plus, (3, 1), (2, 2), ('changed', (1, 0)))]
+[('nought',), False]
+>>> [surely(plus, 'flockers', (1, 1), (0,)), surely(plus, 'flockers', (1, 1), (0, 1)), surely(plus, 'shunners', (1, 1), (0,))]
+[(0, 2), (2, 2), (1, 1)]
+"""
+
+SECTION_13 = r"""
+>>> from likelights.parting import beliefs, fewest, guess, parting, shows_parting
+>>> from likelights.webs import Web
+>>> half, empty, crossed = Web('web 2\neven 0 1 1'), Web('web 2'), Web('web 2\ncross 0 1')
+>>> [parting((half, empty), 1), parting((half, empty), 2), parting((half, empty, crossed), 2)[0]]
+[('never', 0, 1), ('plan', ((0, 1, (1, 1)),)), 'plan']
+>>> [shows_parting((half, empty, crossed), 2, ('plan', ((0, 1, (1, 1)), (0, 2, (1, 1)), (1, 2, shot)))) for shot in ((1, 0), (0, 2), (1, 1))]
+[True, True, False]
+>>> [fewest((half, empty), 1), fewest((half, empty), 2), fewest((half, empty, crossed), 2)]
+[None, 1, 2]
+>>> guess((half, empty), ((1, 2), (1, 2)), (1, 0))
+((3, 4), (((1, 0), 1), ((0, 1), 0)))
+>>> [beliefs((half, empty), ((1, 2), (1, 2)), (((1, 0), (1, 0)),)), beliefs((half, empty), ((1, 2), (1, 2)), (((1, 1), (1, 1)),))]
+[((1, 3), (2, 3)), ((0, 1), (1, 1))]
+"""
+
+SECTION_14 = r"""
+>>> from likelights.bench import Bench
+>>> bench = Bench(2)
+>>> bench.put(0, 'even 0 1 1')
+>>> bench.fill((1, 1))
+>>> [bench.shares('flockers'), bench.done]
+[(((2, 0), (1, 2)), ((1, 1), (0, 1)), ((0, 2), (1, 2))), 2]
+>>> bench.watch(((0,),))
+>>> bench.looks('strangers')
+(((2,), (1, 4)), ((1,), (1, 2)), ((0,), (1, 4)))
+>>> bench.put(0, 'turn 1 0 1 1')
+>>> bench.put(2, 'mirror 0 1 3 4 5')
+>>> bench.swap(1)
+>>> [bench.web.lines, bench.web.pieces, bench.done]
+[2, (('turn', 1, 0, 1, 1), ('mirror', 0, 1, 3, 4, 5), ('even', 0, 1, 1)), 6]
+>>> bench.undo()
+>>> bench.take(2)
+>>> [bench.web.text.split('\n'), bench.grains, bench.counter]
+[['web 2', 'turn 1 0 1 1', 'even 0 1 1'], (1, 1), ((0,),)]
+"""
+
+SECTION_15 = r"""
+>>> from likelights.desk import Desk
+>>> from likelights.journals import journal, read_journal
+>>> desk = Desk('bench 2\nput 0 even 0 1 1\nfill 1 1')
+>>> [desk.say(line) for line in ('shares flockers', 'chance shunners 1 1', 'weight 0 1', 'watch 1', 'looks strangers')]
+['2 0 is 1/2; 1 1 is 0; 0 2 is 1/2', '1', '1 -1 2', 'ok', '2 is 1/4; 1 is 1/2; 0 is 1/4']
+>>> [desk.say(line) for line in ('put 1 turn 1 0 1 1', 'web', 'swap 0', 'undo', 'watch', 'counter', 'looks flockers')]
+['ok', 'even 0 1 1; turn 1 0 1 1', 'ok', 'ok', 'ok', 'none', '- is 1']
+>>> journal(desk.bench).split('\n')
+['bench 2', 'put 0 even 0 1 1', 'fill 1 1', 'watch 1', 'put 1 turn 1 0 1 1', 'watch']
+>>> read_journal(journal(desk.bench)) == desk.bench
+True
+"""
+
 
 class Examples(unittest.TestCase):
     def held(self, text, name):
@@ -107,6 +223,27 @@ class Examples(unittest.TestCase):
 
     def test_section_8(self):
         self.held(SECTION_8, "section 8")
+
+    def test_section_9(self):
+        self.held(SECTION_9, "section 9")
+
+    def test_section_10(self):
+        self.held(SECTION_10, "section 10")
+
+    def test_section_11(self):
+        self.held(SECTION_11, "section 11")
+
+    def test_section_12(self):
+        self.held(SECTION_12, "section 12")
+
+    def test_section_13(self):
+        self.held(SECTION_13, "section 13")
+
+    def test_section_14(self):
+        self.held(SECTION_14, "section 14")
+
+    def test_section_15(self):
+        self.held(SECTION_15, "section 15")
 
     def test_readme(self):
         self.held(README.read_text().replace("```", ""), "README.md")

@@ -4,6 +4,11 @@ import ast
 import unittest
 from pathlib import Path
 
+from likelights.bench import Bench
+from likelights.desk import Desk
+from likelights.programs import Program
+from likelights.webs import Web
+
 PACKAGE = Path(__file__).resolve().parent.parent / "likelights"
 
 FUNCTIONS = {
@@ -45,15 +50,87 @@ FUNCTIONS = {
         "by_shunned": ["table", "start", "end"],
         "backward": ["lines", "rows"],
     },
+    "counters.py": {
+        "counted": ["web", "sort", "start", "counter"],
+        "whether": ["web", "sort", "start", "counter"],
+        "seen_table": ["web", "counter"],
+        "by_seen": ["lines", "counter", "seen", "start", "counts"],
+        "missed": ["rows", "shares"],
+    },
+    "alike.py": {
+        "alike": ["one", "other", "counter"],
+        "shows_alike": ["one", "other", "counter", "value"],
+        "between": ["one", "other"],
+        "shows_between": ["one", "other", "value"],
+        "anywhere": ["one", "other"],
+        "shows_anywhere": ["one", "other", "value"],
+        "kinds_of": ["webs", "word", "counter"],
+    },
+    "programs.py": {
+        "ways": ["program", "sort", "start"],
+        "ends": ["program", "sort", "start"],
+        "left": ["program", "sort", "start", "word"],
+        "programs_alike": ["one", "other", "sort", "start"],
+    },
+    "never.py": {
+        "changes": ["web"],
+        "barred": ["web", "change", "start"],
+        "never": ["web", "start", "end"],
+        "shows_never": ["web", "start", "end", "value"],
+        "surely": ["web", "sort", "start", "lot"],
+    },
+    "parting.py": {
+        "parting": ["webs", "grains"],
+        "shows_parting": ["webs", "grains", "value"],
+        "fewest": ["webs", "grains"],
+        "guess": ["webs", "prices", "start"],
+        "beliefs": ["webs", "prices", "shots"],
+    },
+    "journals.py": {
+        "journal": ["bench"],
+        "read_journal": ["text"],
+    },
 }
 
 METHODS = {
     "webs.py": {"Web": {"__init__": ["self", "text"], "weight": ["self", "start", "end"]}},
+    "programs.py": {"Program": {"__init__": ["self", "text"]}},
+    "bench.py": {
+        "Bench": {
+            "__init__": ["self", "lines"],
+            "put": ["self", "place", "text"],
+            "take": ["self", "place"],
+            "swap": ["self", "place"],
+            "fill": ["self", "pattern"],
+            "watch": ["self", "counter"],
+            "shares": ["self", "sort"],
+            "looks": ["self", "sort"],
+            "shunned_now": ["self"],
+            "undo": ["self"],
+            "redo": ["self"],
+            "trial": ["self"],
+            "keep": ["self"],
+            "tried": ["self", "look", "keep"],
+            "copy": ["self"],
+        },
+    },
+    "desk.py": {"Desk": {"__init__": ["self", "text"], "say": ["self", "line"]}},
 }
+
+# Attributes that are listed for a class, on one of its objects.
+ATTRIBUTES = (
+    (Web("web 2"), ("text", "lines", "pieces", "table")),
+    (Program("program 1\nblock a\nend b"), ("text", "lines", "blocks", "words")),
+    (Bench(3), ("lines", "web", "grains", "counter", "done")),
+    (Desk("bench 1"), ("bench",)),
+)
 
 
 def functions_in(body):
-    return {row.name: [word.arg for word in row.args.args] for row in body if isinstance(row, ast.FunctionDef)}
+    return {
+        row.name: [word.arg for word in row.args.args + row.args.kwonlyargs]
+        for row in body if isinstance(row, ast.FunctionDef)
+    }
 
 
 def defined(file):
@@ -82,6 +159,12 @@ class Interface(unittest.TestCase):
                 for method, parameters in methods.items():
                     with self.subTest(file=file, name=name, method=method):
                         self.assertEqual(found.get(name, {}).get(method), parameters)
+
+    def test_attributes_are_set_when_the_object_is_created(self):
+        for made, names in ATTRIBUTES:
+            for name in names:
+                with self.subTest(made=made.__class__.__name__, name=name):
+                    self.assertIn(name, vars(made))
 
 
 if __name__ == "__main__":
