@@ -196,6 +196,9 @@ class Read(Checks, unittest.TestCase):
             self.assertEqual(self.read(f"program 1\nblock a\nend {name}"), 3)
             self.assertEqual(self.read(f"program 1\nblock a\nlook 0\nelse {name}\nblock b\nend b"), 4)
             self.assertEqual(self.read(f"program 1\nblock a\nlook 0\non 1 {name}\nelse b\nblock b\nend b"), 4)
+            # What is no name is wrong by its form, not for where it leads: no later line comes first.
+            self.assertEqual(self.read(f"program 1\nblock a\nlook 0\nelse {name}\nblock b\nend"), 4)
+            self.assertEqual(self.read(f"program 1\nblock a\nlook 0\non 1 {name}\nelse b\nblock b"), 4)
 
     def test_a_block_s_name_for_the_second_time(self):
         self.assertEqual(self.read("program 1\nblock a\nend b\nblock a\nend c"), 4)
